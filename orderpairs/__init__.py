@@ -1,0 +1,1 @@
+"""Orderpairs: which pairs of concurrent changes must be put in order."""

@@ -1,7 +1,7 @@
 """Policies: which pairs of changes are put in order, and at which stores the allowed orders end."""
 
 from orderpairs.errors import BadOrder, BadPolicy, BadTable, NotEnough
-from orderpairs.worlds import check_world, is_known, is_set, is_store_of
+from orderpairs.worlds import check_world, is_known, is_set, is_start, is_store_of
 
 
 def orders(world, policy, names):
@@ -156,8 +156,7 @@ def check_table(world, table):
 def is_table_key(world, key):
     if not isinstance(key, tuple) or len(key) != 2:
         return False
-    # A tuple with True in it equals one with 1, so that being among the initial stores is not enough.
-    return is_store_of(key[0], world.slots) and key[0] in world.stores and is_set(world, key[1])
+    return is_start(world, key[0]) and is_set(world, key[1])
 
 
 def is_right_end(world, policy, table, start, names):

@@ -90,6 +90,12 @@ def is_store_of(store, slots):
     return is_store(store) and len(store) == slots
 
 
+def is_start(world, store):
+    """Whether this is an initial store of the world."""
+    # A tuple with True in it equals one with 1, so that being among the initial stores is not enough.
+    return is_store_of(store, world.width) and store in world.starts
+
+
 def are_initial_stores(stores, slots):
     if not isinstance(stores, (list, tuple)) or not 1 <= len(stores) <= MOST_STORES:
         return False

@@ -8,6 +8,7 @@ from orderpairs.errors import BadOrder, BadPolicy, BadTable, BadWorld, NotEnough
 from orderpairs.policies import ends, first_split, is_enough, is_table, orders, trimmed
 from orderpairs.worlds import World
 from tests.helping import samples, strangers
+from tests.plain import plain_ends, plain_orders, plain_split, plain_trimmed
 
 RESET_FIRST = {("reset", "count"): True}
 
@@ -23,42 +24,6 @@ def four():
 def apart():
     """A world whose changes commute, each in its own slot."""
     return World(3, [(0, 0, 0), (7, 7, 7)], {"c": Add.one(0), "a": Raise(1, 3), "b": Lower(2, 3)})
-
-
-# What follows decides by the words of the document, order by order, to check the program against it.
-
-def allowed(policy, order):
-    return all(order.index(one) < order.index(other) for one, other in policy if one in order and other in order)
-
-
-def plain_orders(policy, names):
-    return [order for order in itertools.permutations(names) if allowed(policy, order)]
-
-
-def plain_splits(world, policy):
-    for store in world.stores:
-        for names in world.sets():
-            for one, other in itertools.product(plain_orders(policy, names), repeat=2):
-                if world.end(store, one) != world.end(store, other):
-                    yield store, one, other
-
-
-def plain_split(world, policy):
-    return next(plain_splits(world, policy), None)
-
-
-def plain_ends(world, policy):
-    return {(store, names): world.end(store, plain_orders(policy, names)[0])
-            for store in world.stores for names in world.sets()}
-
-
-def plain_trimmed(world, policy):
-    kept = sorted(policy, key=lambda pair: [world.names.index(name) for name in pair])
-    for pair in list(kept):
-        fewer = [other for other in kept if other != pair]
-        if plain_split(world, {other: True for other in fewer}) is None:
-            kept = fewer
-    return {pair: True for pair in kept}
 
 
 def all_calls(world, policy):

@@ -73,6 +73,19 @@ def changed_answers(source, world, found):
     yield policy, table, doubts + [(source.choice(world.stores), mixed[0], mixed[1])]
 
 
+def every_doubt(world, least):
+    """All pairs of orders of at least so many changes that end differently, with the store."""
+    for store, names in itertools.product(world.stores, world.sets()):
+        for one, other in itertools.combinations(itertools.permutations(names), 2):
+            if len(names) >= least and world.end(store, one) != world.end(store, other):
+                yield store, one, other
+
+
+def later():
+    """A world in which a and b commute at first, but not behind c."""
+    return World(2, [(0, 0)], {"a": Add.one(0), "b": If(0, 5, Put(1, 1)), "c": Put(0, 4)})
+
+
 class WrongArguments(unittest.TestCase):
     def calls(self, world, costs):
         found = agreement(example(), COSTS)
@@ -358,6 +371,31 @@ class Shows(unittest.TestCase):
         doubts = [((0,), pair, pair[::-1]) for pair in (("a", "b"), ("a", "c"), ("b", "c"))]
         self.assertIs(Agreement(policy, ends(world, policy), doubts).shows(world, costs), True)
         self.assertIs(Agreement(policy, ends(world, policy), doubts[:2]).shows(world, costs), False)
+
+    def test_an_order_may_be_allowed_by_entries_between_its_changes(self):
+        world = later()
+        costs = {("c", "a"): 0, ("c", "b"): 0, ("a", "b"): 5, ("b", "a"): 5, ("a", "c"): 9, ("b", "c"): 9}
+        found = agreement(world, costs)
+        self.assertEqual(found.policy, {("a", "b"): True, ("c", "a"): True})
+        self.assertIs(found.shows(world, costs), True)
+        doubts = [((0, 0), ("c", "a", "b"), ("c", "b", "a")), ((0, 0), ("a", "c"), ("c", "a"))]
+        self.assertIs(Agreement(found.policy, found.table, doubts).shows(world, costs), True)
+        self.assertIs(Agreement(found.policy, found.table, doubts[:1]).shows(world, costs), True)
+        self.assertIs(Agreement(found.policy, found.table, doubts[1:]).shows(world, costs), False)
+
+    def test_sample_answers_with_other_doubts(self):
+        source = random.Random(13)
+        counts = {True: 0, False: 0}
+        for world, costs in sample_questions(60, 14):
+            found = agreement(world, costs)
+            for least in (2, 3):
+                choices = list(every_doubt(world, least))
+                for many in (1, 3, 9):
+                    doubts = source.sample(choices, min(many, len(choices)))
+                    wanted = least_forbidding(world, costs, doubts) >= plain_cost(found.policy, costs)
+                    self.assertIs(Agreement(found.policy, found.table, doubts).shows(world, costs), wanted)
+                    counts[wanted] += 1
+        self.assertTrue(counts[True] > 20 and counts[False] > 20, counts)
 
     def test_the_current_attributes_count(self):
         self.found.doubts.clear()

@@ -141,6 +141,15 @@ class WorldLines(TextCase):
             self.assert_world_row(line + "\n" + HEAD + PUT + ADD, 0)
             self.assert_world_row(line + "\nx\n", 0)
 
+    def test_the_ten_digits_only(self):
+        for code in range(256):
+            if chr(code) not in "0123456789\n":
+                self.assert_world_row(f"slots {chr(code)}\nx\n", 0)
+                self.assert_world_row(HEAD + f"store {chr(code)}\nx\n", 3)
+        for digit in "0123456789":
+            self.assert_world_row(f"slots {digit}\nx\n", 1)
+            self.assert_world_row(HEAD + f"store {digit}\nx\n", 4)
+
     def test_slots_only_there(self):
         for text in ["slots 2\nslots 2\n", HEAD + "slots 2\n" + PUT + ADD, HEAD + PUT + "slots 2\n" + ADD,
                      HEAD + PUT + ADD + "slots 2\n"]:
